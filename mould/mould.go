@@ -68,12 +68,13 @@ func Text(s string, n int) (string, api.Errno) {
 func Untext(s string) (string, api.Errno) {
 	end := strings.IndexByte(s, 0)
 	if end < 0 {
-		return s, api.OK
+		end = len(s)
 	}
 	if !allZero(s[end:]) {
 		return "", api.ErrCorrupt
 	}
-	return s[:end], api.OK
+	// A cut of s would share its memory.
+	return strings.Clone(s[:end]), api.OK
 }
 
 func Pad(s string, n int) (string, api.Errno) {
@@ -83,7 +84,9 @@ func Pad(s string, n int) (string, api.Errno) {
 	if len(s) > n {
 		return "", api.ErrRange
 	}
-	return s + strings.Repeat("\x00", n-len(s)), api.OK
+	padded := make([]byte, n)
+	copy(padded, s)
+	return string(padded), api.OK
 }
 
 func isWidth(width int) bool {
