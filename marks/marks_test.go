@@ -362,7 +362,8 @@ func TestRunBeyondTheBits(t *testing.T) {
 	}
 }
 
-// Every start, bound and length, held against a search in the written bits.
+// Every start, bound and length, and some beyond the bits on either side, held
+// against a search in the written bits.
 func TestRunAndFirstOfAllSamples(t *testing.T) {
 	for _, m := range samples(5) {
 		bits := written(m)
@@ -370,7 +371,7 @@ func TestRunAndFirstOfAllSamples(t *testing.T) {
 			inside := bits[:min(n, len(bits))]
 			for from := -2; from < n+2; from++ {
 				skipped := min(max(from, 0), len(inside))
-				for length := 1; length < 12; length++ {
+				for length := 1; length < n+2; length++ {
 					at := strings.Index(inside[skipped:], strings.Repeat("0", length))
 					ok := at >= 0
 					start := 0
