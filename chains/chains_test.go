@@ -429,9 +429,6 @@ func TestRoom(t *testing.T) {
 	for old := range 11 {
 		for free := range 12 {
 			for count := range 11 {
-				if old == 2 || count == 2 {
-					continue
-				}
 				m, f := newModel(api.Crown{Format: api.One, Blocks: 75}), newFile()
 				m.save(f, withLists(old))
 				for block := 51 + old; block < 75-free; block++ {
@@ -452,9 +449,12 @@ func TestRoom(t *testing.T) {
 	}
 }
 
-// withLists returns a map with this many lists: 0 to 10, but not 2, since Double
-// and its first list are needed together, beside Single.
+// withLists returns a map with this many lists, 0 to 10. Double and its first
+// list are needed together, so two lists are these, and three are Single, too.
 func withLists(count int) []int {
+	if count == 2 {
+		return mapOf(75, 74)
+	}
 	m := make([]int, 76)
 	if count > 0 {
 		m[4] = 74
@@ -463,22 +463,6 @@ func withLists(count int) []int {
 		m[12+8*k] = 74
 	}
 	return m
-}
-
-// Double with one list is the only map with two lists.
-func TestRoomForDouble(t *testing.T) {
-	for used := 51; used <= 64; used++ {
-		var blocks []int
-		for block := 51; block < used; block++ {
-			blocks = append(blocks, block)
-		}
-		m, f := newModel(api.Crown{Format: api.One, Blocks: 64}, blocks...), newFile()
-		_, _, d := begun(t, m)
-		wantSave(t, d, m, f, mapOf(75, 63))
-		if (len(f.lists) == 2) != (used <= 62) {
-			t.Errorf("from %d on: %v", used, f.card)
-		}
-	}
 }
 
 func TestOtherFieldsAreKept(t *testing.T) {
